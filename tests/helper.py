@@ -29,8 +29,37 @@ def apart(*row):
     return [7, 0, 1, len(row), *row]
 
 
+def people(*row):
+    return [8, 0, 1, len(row), *row]
+
+
+def roster(*rows):
+    return [9, 0, len(rows), *[number for row in rows for number in (len(row), *row)]]
+
+
+def need(t):
+    return [10, 1, t, 0]
+
+
+def there(t, *row):
+    return [11, 1, t, 1, len(row), *row]
+
+
+def shortage(n):
+    return [12, 1, n, 0]
+
+
+def ill(j, k, *row):
+    return [13, 2, j, k, 1, len(row), *row]
+
+
+def hours(*row):
+    return [14, 0, 1, len(row), *row]
+
+
 LEAST = [4, 0, 0]
 BACK = [5, 0, 0]
+TOLD = [15, 0, 0]
 
 
 def parted(told):

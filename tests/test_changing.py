@@ -2,8 +2,7 @@
 
 import unittest
 
-from crewshifts.plan import Plan, answer
-from helper import BACK, HUGE, LEAST, apart, begin, changes, covers, last, rest, run, shift
+from helper import BACK, HUGE, LEAST, TOLD, apart, begin, changes, covers, last, rest, run, shift
 
 
 class BeforeTheFirstCall(unittest.TestCase):
@@ -12,7 +11,7 @@ class BeforeTheFirstCall(unittest.TestCase):
         self.assertEqual(run(changes(1440, 1), changes(1439, 1)), [[-2], [0]])
 
     def test_rest_is_0(self):
-        self.assertEqual(Plan().rest, 0)
+        self.assertEqual(run(TOLD)[0][1], 0)
 
     def test_no_changes_and_no_shifts(self):
         self.assertEqual(run(LEAST, BACK, covers(), apart(0, 1439)), [[0, 0, 0], [0, 0, 0], [0, 0], [0, 0]])
@@ -34,23 +33,18 @@ class Begin(unittest.TestCase):
         self.assertEqual(told[3:], [[1], [3, 1, 0, 3, 1, 999999], [3, 1, 1, 3, 1, 999999]])
 
     def test_takes_changes_and_shifts_away(self):
-        told = run(changes(0, 2), shift(0, 1440), LEAST, begin(50), LEAST, covers(0, 1), shift(0, 51), shift(0, 50), LEAST)
+        told = run(changes(0, 2), shift(0, 1440), LEAST, begin(50), LEAST, covers(0, 1), shift(0, 51), shift(0, 50),
+                   LEAST)
         self.assertEqual(told, [[0], [0], [2, 1, 0, 2, 1, 0], [0], [0, 0, 0], [-2], [-1], [0], [0, 0, 0]])
 
     def test_sets_the_rest(self):
-        plan = Plan()
-        self.assertEqual(answer(plan, 0, [10, 20], []), [0])
-        self.assertEqual((plan.horizon, plan.rest), (10, 20))
+        self.assertEqual(run(begin(10, 20), TOLD), [[0], [10, 20, 0, 0]])
 
     def test_refused_changes_nothing(self):
         for wrong in (begin(0, 5), begin(10, -1)):
             told = run(begin(100), changes(5, 2), shift(0, 100), wrong, LEAST, shift(0, 100), shift(0, 101))
             self.assertEqual(told[3:], [[-1], [2, 1, 0, 2, 1, 5], [1], [-1]])
-        plan = Plan()
-        answer(plan, 0, [10, 20], [])
-        answer(plan, 0, [0, 30], [])
-        answer(plan, 0, [30, 1000001], [])
-        self.assertEqual((plan.horizon, plan.rest), (10, 20))
+        self.assertEqual(last(begin(10, 20), begin(0, 30), begin(30, 1000001), TOLD), [10, 20, 0, 0])
 
 
 class Changes(unittest.TestCase):
@@ -117,10 +111,10 @@ class Rest(unittest.TestCase):
                          [[0], [0], [-1], [-1], [-1], [-1]])
 
     def test_is_kept_and_a_refused_one_is_not(self):
-        plan = Plan()
+        calls = []
         for minutes, kept in ((60, 60), (-1, 60), (1000001, 60), (1000000, 1000000), (0, 0)):
-            answer(plan, 3, [minutes], [])
-            self.assertEqual(plan.rest, kept)
+            calls.append(rest(minutes))
+            self.assertEqual(last(*calls, TOLD), [1440, kept, 0, 0])
 
     def test_changes_nothing_else(self):
         told = run(begin(100), changes(5, 2), shift(0, 100), rest(30), LEAST, shift(0, 100), shift(0, 101))
